@@ -1,0 +1,1 @@
+"""Balepress: rows of numbers pressed in blocks, with checks, as they come."""

@@ -1,0 +1,28 @@
+"""Rows: lists of whole numbers from 0 to 255."""
+
+from balepress.errors import BadRow
+
+GREATEST = 255
+
+
+def is_whole(thing, least, most):
+    # The kind is asked first: a comparison could fail on any other kind, and True would pass for 1.
+    if isinstance(thing, bool) or not isinstance(thing, int):
+        return False
+    return least <= thing <= most
+
+
+def is_row(thing):
+    if not isinstance(thing, list):
+        return False
+    for number in thing:
+        if not is_whole(number, 0, GREATEST):
+            return False
+    return True
+
+
+def need_row(thing):
+    # The words don't show the thing: there may be no way to show it.
+    if not is_row(thing):
+        raise BadRow("a row is a list of whole numbers from 0 to 255")
+    return list(thing)

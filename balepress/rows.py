@@ -12,13 +12,17 @@ def is_whole(thing, least, most):
     return least <= thing <= most
 
 
-def is_row(thing):
+def are_whole(thing, least, most):
     if not isinstance(thing, list):
         return False
     for number in thing:
-        if not is_whole(number, 0, GREATEST):
+        if not is_whole(number, least, most):
             return False
     return True
+
+
+def is_row(thing):
+    return are_whole(thing, 0, GREATEST)
 
 
 def need_row(thing):

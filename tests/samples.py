@@ -30,3 +30,12 @@ def no_rows():
     for thing in no_signs():
         rows += [[thing], [thing, 1, 2], [1, thing, 2], [1, 2, thing]]
     return rows
+
+
+def spread(seed, many, below):
+    """Numbers that look like chance and are the same each time."""
+    told, state = [], seed
+    for step in range(many):
+        state = (state * 6364136223846793005 + 1442695040888963407) % 2 ** 64
+        told.append((state >> 33) % below)
+    return told

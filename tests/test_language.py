@@ -40,6 +40,36 @@ def kept_and_called():
     return methods, values
 
 
+def top_names(path):
+    """The names that a file binds at its top, in order, imports apart."""
+    names = []
+    for node in ast.parse(path.read_text()).body:
+        if isinstance(node, (ast.FunctionDef, ast.ClassDef)):
+            names.append(node.name)
+        elif isinstance(node, ast.Assign):
+            names += [target.id for target in node.targets]
+    return names
+
+
+def imports_of(path):
+    return [node for node in ast.parse(path.read_text()).body if isinstance(node, ast.ImportFrom)]
+
+
+def file_of(module):
+    return ROOT / (module.replace(".", "/") + ".py")
+
+
+def drawn_from(path):
+    """All files that a file draws from, in whatever many steps."""
+    found, waiting = set(), [path]
+    while waiting:
+        for node in imports_of(waiting.pop()):
+            if file_of(node.module) not in found:
+                found.add(file_of(node.module))
+                waiting.append(file_of(node.module))
+    return found
+
+
 class LanguageTest(unittest.TestCase):
     def test_files(self):
         self.assertTrue(FILES)
@@ -69,6 +99,32 @@ class LanguageTest(unittest.TestCase):
             self.assertTrue(node.module.startswith("balepress."), (path, node.lineno))
             for name in node.names:
                 self.assertNotEqual(name.name, "*")
+
+    def test_imports_from_the_defining_file_and_in_no_ring(self):
+        for path in FILES:
+            self.assertNotIn(path, drawn_from(path))
+            for node in imports_of(path):
+                for name in node.names:
+                    self.assertIn(name.name, top_names(file_of(node.module)), (path, node.lineno))
+
+    def test_each_name_once(self):
+        for path in FILES:
+            imported = [name.name for node in imports_of(path) for name in node.names]
+            names = top_names(path) + imported
+            self.assertEqual(len(names), len(set(names)), path)
+            classes = [node.name for node in ast.parse(path.read_text()).body if isinstance(node, ast.ClassDef)]
+            for node in ast.walk(ast.parse(path.read_text())):
+                bound = node.arg if isinstance(node, ast.arg) else ""
+                if isinstance(node, ast.Name) and isinstance(node.ctx, ast.Store):
+                    bound = node.id
+                self.assertNotIn(bound, classes + imported, path)
+
+    def test_handlers(self):
+        for path, node in nodes_of(ast.ExceptHandler):
+            self.assertIsInstance(node.type, ast.Name, (path, node.lineno))
+            self.assertIn(node.type.id, top_names(ROOT / "balepress" / "errors.py"), (path, node.lineno))
+        for path, node in nodes_of(ast.Raise):
+            self.assertIsInstance(node.exc, ast.Call, (path, node.lineno))
 
     def test_no_docstring_or_value_by_itself_below_the_top(self):
         for path in FILES:

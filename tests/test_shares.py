@@ -143,7 +143,7 @@ class LengthsTest(unittest.TestCase):
 
     def test_three_hundred(self):
         for counts in (list(range(1, 301)), [1000000] * 300, [1] * 299 + [1000000]):
-            for most in (9, 12):
+            for most in (9, 10, 11, 12):
                 self.hold(counts, most, least_by_levels(counts, most))
         self.hold([0, 1000000, 0, 1, 7] * 60, 8, least_by_levels([1000000, 1, 7] * 60, 8))
         self.hold([0, 0, 0, 0, 9] * 60, 6, least_by_levels([9] * 60, 6))

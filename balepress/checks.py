@@ -37,3 +37,15 @@ def check_of(row, wide=16):
     check = Check(wide)
     check.add(row)
     return check.value()
+
+
+def in_two_bytes(number):
+    return [number >> 8, number & 255]
+
+
+def with_check(row):
+    return row + in_two_bytes(check_of(row))
+
+
+def ends_in_check(row):
+    return with_check(row[:-2]) == row

@@ -8,12 +8,12 @@ LEAST_COPIED = 3
 MOST_COPIED = 18
 
 
-def need_window(before):
+def need_window(before, most):
     if before is None:
         return []
     window = need_row(before)
-    if len(window) > FARTHEST:
-        raise BadRow("a window has at most 255 signs")
+    if len(window) > most:
+        raise BadRow(f"a window has at most {most} signs")
     return window
 
 
@@ -42,7 +42,7 @@ def longest_copy(signs, place):
 
 def pieces_of(text, before=None):
     own_signs = need_row(text)
-    signs = need_window(before) + own_signs
+    signs = need_window(before, FARTHEST) + own_signs
     place = len(signs) - len(own_signs)
     pieces = []
     while place < len(signs):
@@ -68,14 +68,13 @@ def is_piece(thing):
 
 
 def add_copy(signs, back, size):
-    if back > len(signs):
-        raise BadPieces("a copy reaches farther back than there are signs")
+    # One by one: a copy may reach into its own signs.
     for step in range(size):
         signs.append(signs[-back])
 
 
 def text_of(pieces, before=None):
-    signs = need_window(before)
+    signs = need_window(before, FARTHEST)
     window_size = len(signs)
     if not isinstance(pieces, list):
         raise BadPieces("pieces come in a list")
@@ -84,6 +83,8 @@ def text_of(pieces, before=None):
             raise BadPieces("a piece is a sign or a copy of 3 to 18 signs from 1 to 255 places back")
         if piece[0] == "sign":
             signs.append(piece[1])
+        elif piece[1] > len(signs):
+            raise BadPieces("a copy reaches farther back than there are signs")
         else:
             add_copy(signs, piece[1], piece[2])
     return signs[window_size:]

@@ -2,20 +2,11 @@ import unittest
 
 from balepress.bits import BitReader, BitRow
 from balepress.errors import BadBits, BadRow, NoBits
+from tests.reckoned import bytes_of, signs_of
 from tests.samples import no_rows, no_whole_numbers
 
 SIZES = list(range(25))
 BYTES = [place * 73 % 256 for place in range(40)]
-
-
-def signs_of(number, size):
-    """The bits as a Python text, kept apart from how the program reckons."""
-    return format(number, f"0{size}b") if size else ""
-
-
-def bytes_of(signs):
-    filled = signs + "0" * (-len(signs) % 8)
-    return [int(filled[place:place + 8], 2) for place in range(0, len(filled), 8)]
 
 
 def many_puts():

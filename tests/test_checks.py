@@ -1,27 +1,12 @@
 import unittest
 
-from balepress.checks import Check, check_of
+from balepress.checks import Check, check_of, ends_in_check, with_check
 from balepress.errors import BadBits, BadRow
+from tests.reckoned import remainder
 from tests.samples import no_rows, no_whole_numbers
 
 ROWS = [[], [0], [255], [0, 0], [0, 0, 0], [1, 2, 3], [184, 66, 1], list(range(256)), [255] * 40,
         [place * 37 % 256 for place in range(300)]]
-
-
-def remainder(row, wide):
-    """The check by another way: the rest of one long division, its first bits turned round."""
-    bits = []
-    for byte in row:
-        bits += [int(sign) for sign in format(byte, "08b")]
-    bits += [0] * wide
-    for place in range(wide):
-        bits[place] ^= 1
-    divisor = [int(sign) for sign in format({8: 256 + 29, 16: 65536 + 45}[wide], "b")]
-    for place in range(8 * len(row)):
-        if bits[place] == 1:
-            for step, bit in enumerate(divisor):
-                bits[place + step] ^= bit
-    return int("".join(str(bit) for bit in bits[8 * len(row):]), 2)
 
 
 def no_widths():
@@ -148,6 +133,28 @@ class CheckTest(unittest.TestCase):
                     self.assertEqual(check.value(), check_of([5, 6], wide))
             check.add([7])
             self.assertEqual(check.value(), check_of([5, 6, 7], wide))
+
+
+class WithCheckTest(unittest.TestCase):
+    def test_two_bytes_the_highest_first(self):
+        self.assertEqual(with_check([]), [255, 255])
+        self.assertEqual(with_check([255, 254]), [255, 254, 0, 45])
+        for row in ROWS:
+            kept = list(row)
+            check = remainder(row, 16)
+            self.assertEqual(with_check(row), row + [check // 256, check % 256])
+            self.assertEqual(row, kept)
+
+    def test_ends_in_check(self):
+        for row in ROWS:
+            right = with_check(row)
+            self.assertIs(ends_in_check(right), True)
+            for place in range(8 * len(right)):
+                turned = list(right)
+                turned[place // 8] ^= 1 << place % 8
+                self.assertIs(ends_in_check(turned), False)
+        for row in ([], [255], [0]):
+            self.assertIs(ends_in_check(row), False)
 
 
 if __name__ == "__main__":

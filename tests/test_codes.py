@@ -5,6 +5,7 @@ from balepress.bits import BitReader, BitRow
 from balepress.codes import CodeReader, codes_of
 from balepress.errors import BadCode, BadLengths, NoBits
 from balepress.shares import lengths_of
+from tests.reckoned import codes_by_room, room, signs_of, sought
 from tests.samples import no_lists, no_whole_numbers, spread
 
 ROWS = [
@@ -13,35 +14,6 @@ ROWS = [
     [12] * 300, [0] * 299 + [4], [6] * 64 + [0] * 208, [3, 2, 3, 2, 0, 2], lengths_of(spread(1, 300, 5000), 12),
     lengths_of(spread(2, 60, 900)), lengths_of([1, 1, 2, 3, 5, 8, 13, 21, 34, 55, 89, 144, 233, 377, 610], 12),
 ]
-
-
-def room(lengths):
-    return sum(2 ** (12 - length) for length in lengths if length > 0)
-
-
-def codes_by_room(lengths):
-    """Each code is the room that those ahead of it take, cut to its length."""
-    codes = [None] * len(lengths)
-    ahead = []
-    for length, place in sorted((length, place) for place, length in enumerate(lengths) if length > 0):
-        codes[place] = (room(ahead) >> (12 - length), length)
-        ahead.append(length)
-    return codes
-
-
-def signs_of(pair):
-    return format(pair[0], f"0{pair[1]}b")
-
-
-def sought(lengths, signs):
-    """What the bits, as a Python text, tell: a thing and its bits, or the refusal."""
-    codes = {signs_of(pair): place for place, pair in enumerate(codes_by_room(lengths)) if pair is not None}
-    for size in range(1, len(signs) + 1):
-        if signs[:size] in codes:
-            return codes[signs[:size]], size
-        if not any(code.startswith(signs[:size]) for code in codes):
-            return BadCode, size
-    return NoBits, len(signs)
 
 
 def small_rows():
@@ -78,7 +50,7 @@ class CodesTest(unittest.TestCase):
 
     def test_no_code_begins_another(self):
         for lengths in ROWS:
-            signs = [signs_of(pair) for pair in codes_of(lengths) if pair is not None]
+            signs = [signs_of(*pair) for pair in codes_of(lengths) if pair is not None]
             for first, second in zip(sorted(signs), sorted(signs)[1:]):
                 self.assertFalse(second.startswith(first), lengths)
 

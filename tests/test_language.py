@@ -126,6 +126,31 @@ class LanguageTest(unittest.TestCase):
         for path, node in nodes_of(ast.Raise):
             self.assertIsInstance(node.exc, ast.Call, (path, node.lineno))
 
+    def test_one_plain_target(self):
+        for path, node in nodes_of(ast.Assign):
+            self.assertEqual(len(node.targets), 1, (path, node.lineno))
+            self.assertIsInstance(node.targets[0], (ast.Name, ast.Attribute, ast.Subscript), (path, node.lineno))
+
+    def test_classes_are_only_called_or_named(self):
+        names = [node.name for path, node in nodes_of(ast.ClassDef)]
+        for path in FILES:
+            tree = ast.parse(path.read_text())
+            placed = []
+            for node in ast.walk(tree):
+                if isinstance(node, ast.Call):
+                    placed.append(node.func)
+                    if isinstance(node.func, ast.Attribute) and node.func.attr == "__init__":
+                        placed.append(node.func.value)
+                    if isinstance(node.func, ast.Name) and node.func.id == "isinstance":
+                        placed += list(ast.walk(node.args[1]))
+                elif isinstance(node, ast.ClassDef):
+                    placed += node.bases
+                elif isinstance(node, ast.ExceptHandler):
+                    placed.append(node.type)
+            for node in ast.walk(tree):
+                if isinstance(node, ast.Name) and node.id in names:
+                    self.assertIn(node, placed, (path, node.lineno))
+
     def test_no_docstring_or_value_by_itself_below_the_top(self):
         for path in FILES:
             tree = ast.parse(path.read_text())

@@ -4,6 +4,7 @@ from balepress.bits import BitReader, BitRow
 from balepress.errors import BadTable, NoBits
 from balepress.shares import lengths_of
 from balepress.tables import MANY, put_table, take_table
+from tests.reckoned import read_items, signs_in
 from tests.samples import no_lists, no_whole_numbers, spread
 
 
@@ -56,20 +57,6 @@ def fewest_bits(table):
     return fewest[0]
 
 
-def read_items(signs):
-    """The table that bits, as a Python text, tell, and how many of them."""
-    table, place = [], 0
-    while len(table) < 272:
-        told = int(signs[place:place + 3], 2)
-        place += 3
-        if told == 7:
-            table += [table[-1] if table else 0] * (int(signs[place:place + 6], 2) + 3)
-            place += 6
-        else:
-            table.append(told)
-    return table, place
-
-
 def put_items(bits, items):
     """A number is a length; a tuple holds how many times more the length ahead comes."""
     for item in items:
@@ -78,10 +65,6 @@ def put_items(bits, items):
             bits.put(item[0] - 3, 6)
         else:
             bits.put(item, 3)
-
-
-def signs_in(bits):
-    return "".join(format(byte, "08b") for byte in bits.row())[:bits.many()]
 
 
 def no_tables():

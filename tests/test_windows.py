@@ -3,6 +3,7 @@ import unittest
 
 from balepress.errors import BadPieces, BadRow
 from balepress.windows import pieces_of, text_of
+from tests.reckoned import copied, searched
 from tests.samples import no_rows, no_signs, no_whole_numbers, spread
 
 
@@ -18,27 +19,6 @@ def texts():
 def windows():
     return [None, [], [7], [7] * 3, [1, 2, 3], [1, 2, 3, 4, 5, 6], spread(8, 100, 3), spread(9, 192, 256), [7] * 255,
             list(range(1, 256)), spread(10, 255, 2), spread(11, 255, 4)]
-
-
-def copied(signs, back, size):
-    """The last signs, so many as stand back, over and over."""
-    return (signs[len(signs) - back:] * size)[:size]
-
-
-def searched(text, before):
-    """The pieces by a plain search: every copy is made and held against the text."""
-    pieces, done = [], 0
-    while done < len(text):
-        ahead = ((before or []) + text[:done])[-255:]
-        made = [(back, copied(ahead, back, 18)) for back in range(1, len(ahead) + 1)]
-        piece = ("sign", text[done])
-        for size in range(3, min(18, len(text) - done) + 1):
-            made = [(back, signs) for back, signs in made if signs[:size] == text[done:done + size]]
-            if made:
-                piece = ("copy", min(made)[0], size)
-        pieces.append(piece)
-        done += 1 if piece[0] == "sign" else piece[2]
-    return pieces
 
 
 def no_pieces():

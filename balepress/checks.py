@@ -32,6 +32,11 @@ class Check:
     def value(self):
         return self.state
 
+    def twin(self):
+        other = Check(self.wide)
+        other.state = self.state
+        return other
+
 
 def check_of(row, wide=16):
     check = Check(wide)

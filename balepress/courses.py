@@ -35,5 +35,13 @@ class Course:
         else:
             self.group = self.group + text
 
+    def twin(self):
+        other = Course()
+        other.blocks = self.blocks
+        other.many_signs = self.many_signs
+        other.signs_check = self.signs_check.twin()
+        other.group = self.window()
+        return other
+
     def tail(self):
         return tail_of(self.many_signs, self.signs_check.value())

@@ -5,11 +5,17 @@ from balepress.errors import BadRow
 GREATEST = 255
 
 
+def is_number(thing):
+    return isinstance(thing, int) and not isinstance(thing, bool)
+
+
 def is_whole(thing, least, most):
     # The kind is asked first: a comparison could fail on any other kind, and True would pass for 1.
-    if isinstance(thing, bool) or not isinstance(thing, int):
-        return False
-    return least <= thing <= most
+    return is_number(thing) and least <= thing <= most
+
+
+def is_count(thing):
+    return is_number(thing) and thing >= 0
 
 
 def are_whole(thing, least, most):

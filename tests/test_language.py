@@ -186,6 +186,47 @@ class LanguageTest(unittest.TestCase):
             self.assertNotIn(node.attr, UNUSED)
             self.assertIn(node.attr, methods | values | set(OWN_METHODS_OF_PYTHON), (path, node.lineno))
 
+    def test_own_methods_and_values_are_not_named_like_those_of_python(self):
+        methods, values = kept_and_called()
+        taken = {name for kind in (str, int, list, dict, set, bytes) for name in dir(kind)}
+        with_underscores = {"__init__", "__eq__", "__repr__", "__str__", "__len__"}
+        self.assertEqual(methods & taken - set(OWN_METHODS_OF_PYTHON) - {"add", "discard"} - with_underscores, set())
+        free = set("count index title find get join lower upper split strip copy add".split())
+        self.assertEqual(values & taken - free, set())
+
+    def test_values_at_the_top_are_plain(self):
+        for path in FILES:
+            for node in ast.parse(path.read_text()).body:
+                if isinstance(node, ast.Assign):
+                    for inner in ast.walk(node.value):
+                        self.assertIsInstance(inner, (ast.Constant, ast.Tuple, ast.List, ast.Dict, ast.Load), path)
+
+    def test_defaults_are_plain(self):
+        for path, node in nodes_of(ast.arguments):
+            for default in node.defaults:
+                self.assertIsInstance(default, ast.Constant, path)
+
+    def test_comprehensions_and_texts(self):
+        for path, node in nodes_of(ast.ListComp):
+            self.assertEqual(len(node.generators), 1, (path, node.lineno))
+            self.assertLessEqual(len(node.generators[0].ifs), 1, (path, node.lineno))
+        for path, node in nodes_of(ast.FormattedValue):
+            self.assertIsInstance(node.value, ast.Name, (path, node.lineno))
+        for path, node in nodes_of(ast.Constant):
+            self.assertNotIn("%", str(node.value), (path, node.lineno))
+
+    def test_keywords_at_names_of_python(self):
+        known = {"sorted": ["key", "reverse"], "min": ["key", "default"], "max": ["key", "default"], "sum": ["start"],
+                 "enumerate": ["start"], "zip": ["strict"]}
+        for path, node in nodes_of(ast.Call):
+            if isinstance(node.func, ast.Name) and hasattr(builtins, node.func.id):
+                for keyword in node.keywords:
+                    self.assertIn(keyword.arg, known.get(node.func.id, []), (path, node.lineno))
+
+    def test_sets_are_not_used(self):
+        for path, node in nodes_of(ast.Name):
+            self.assertNotIn(node.id, ("set", "frozenset"), (path, node.lineno))
+
     def test_operators(self):
         for path, node in nodes_of(ast.BinOp):
             self.assertNotIsInstance(node.op, (ast.Div, ast.MatMult), (path, node.lineno))

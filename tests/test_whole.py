@@ -2,14 +2,15 @@
 
 import unittest
 
-from balepress.errors import PressError
+from balepress.errors import BadBody, BadCheck, BadHead, BadTail, Behind, Cut, NoRange, PressError
 from balepress.letters import lettered, row_in
 from balepress.looking import looked
 from balepress.opening import Opener, opened
 from balepress.pressing import Presser, pressed
 from balepress.ranges import told_range
-from tests.bales import COUNTS, cut, opened_by, texts
-from tests.reckoned import bale_of
+from tests.bales import (COUNTS, MARK, any_way_block, copy_block, cut, filled, looked_by, opened_by, range_by, texts,
+                         told_by, turned)
+from tests.reckoned import bale_of, block_with, checked, tail_of
 from tests.samples import spread
 from tests.test_blocks import with_turned_bit
 
@@ -151,6 +152,60 @@ class TurnedBitTest(unittest.TestCase):
                 self.assertEqual(told_range(wrong, 10, 60)[0], text[10:70])
             except PressError:
                 continue
+
+
+class AnyPartsTest(unittest.TestCase):
+    """Bales put together of any parts, good ones and others, held against second reckonings."""
+
+    def part(self, numbers, text):
+        """Some part that comes next behind this text, and the text behind it."""
+        kind, count, way = next(numbers) % 40, (64, 64, 64, 64, 64, 64, 63, 1)[next(numbers) % 8], next(numbers) % 4
+        signs = ([next(numbers) % 256] * 32 + [next(numbers) % 256] * 32)[:count]
+        block = any_way_block(way, signs, text[len(text) // 256 * 256:])
+        if kind < 32:
+            return block, text + signs
+        if kind < 34:
+            return turned(block, next(numbers) % len(block), 1 << next(numbers) % 8), text + signs
+        if kind < 36:
+            return block_with(way, count, [next(numbers) % 256 for step in range(next(numbers) % 64 + 1)]), text + signs
+        if kind < 38:
+            return copy_block(filled(("copy", next(numbers) % 256, 3))), text + signs
+        return tail_of(text), text
+
+    def bale(self, seed):
+        numbers, bale, text = iter(spread(seed, 2000, 1000)), list(MARK), []
+        for step in range(seed % 9):
+            part, text = self.part(numbers, text)
+            bale += part
+        tail = tail_of(text)
+        if seed % 5 == 0:
+            tail = checked(turned(tail[:-2], next(numbers) % 9))
+        bale += tail
+        if seed % 7 == 0:
+            bale = bale[:next(numbers) % len(bale)]
+        return bale + [next(numbers) % 256] * (seed % 11 == 0)
+
+    def held(self, wanted, function, *arguments):
+        if isinstance(wanted, type):
+            self.assertRaises(wanted, function, *arguments)
+        else:
+            self.assertEqual(function(*arguments), wanted)
+
+    def test_any_parts(self):
+        seen = set()
+        for seed in range(500):
+            with self.subTest(seed=seed):
+                bale = self.bale(seed)
+                text, error, over = told_by(bale)
+                self.held(opened_by(bale), opened, bale)
+                self.held(looked_by(bale), looked, bale)
+                self.held(error or text, Opener().feed, bale)
+                for begin, count in ((0, 0), (0, 1), (70, 60), (200, 100), (256, 64), (300, 1), (0, len(text))):
+                    wanted = range_by(bale, begin, count)
+                    self.held(wanted, told_range, bale, begin, count)
+                    seen.add(wanted if isinstance(wanted, type) else list)
+                seen.add(error or list)
+        self.assertEqual(seen, {list, BadBody, BadCheck, BadHead, BadTail, Behind, Cut, NoRange})
 
 
 if __name__ == "__main__":
